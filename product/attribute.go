@@ -5,6 +5,7 @@ import (
 	"strings"
 
 	"priceoffice/api"
+	"priceoffice/name"
 )
 
 // validAttributes reports whether a product may have these attributes.
@@ -14,7 +15,7 @@ func validAttributes(list []api.Attribute) bool {
 	}
 	seen := map[string]bool{}
 	for _, a := range list {
-		if !isName(a.Name) || !isName(a.Value) || seen[a.Name] {
+		if !name.Valid(a.Name) || !name.Valid(a.Value) || seen[a.Name] {
 			return false
 		}
 		seen[a.Name] = true
